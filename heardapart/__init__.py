@@ -1,0 +1,1 @@
+"""Heardapart: words shouted over a web, written down in unlike orders."""
