@@ -12,7 +12,12 @@ INTERFACE = {
     "webs": "is_name is_web way_between side_of meeting_of",
     "books": "is_book turned_pairs longest_turned fewest_lots roads_between is_turned_row is_lots "
              "how_many_numberings is_numbering book_at",
+    "nets": "Net",
+    "moments": "is_moment fault_of what_lies history_of comes_by",
+    "partings": "partings_of pairs_of tree_places fewest_hands",
 }
+NET = "__init__ join shout step rest web words mouth book lane lying moment next_words settled hearings_to"
+LIBRARY = {"math": ["comb"], "heapq": ["heapify", "heappop", "heappush"], "itertools": ["combinations"]}
 
 
 def files():
@@ -49,7 +54,8 @@ class TheFiles(unittest.TestCase):
                 self.assertNotIsInstance(node, ast.Import, name)
                 if isinstance(node, ast.ImportFrom):
                     self.assertEqual(0, node.level)
-                    self.assertTrue(node.module == "math" or node.module.startswith("heardapart."), name)
+                    named = [alias.name for alias in node.names if alias.asname is None]
+                    self.assertTrue(named == LIBRARY.get(node.module) or node.module.startswith("heardapart."), name)
 
     def test_the_interface_is_defined_where_it_is_listed(self):
         for name, listed in INTERFACE.items():
@@ -57,6 +63,13 @@ class TheFiles(unittest.TestCase):
             defined = [node.name for node in body if isinstance(node, (ast.FunctionDef, ast.ClassDef))]
             for word in listed.split():
                 self.assertEqual(1, defined.count(word), name + " " + word)
+
+    def test_a_nets_methods_are_defined_in_the_class_itself(self):
+        for node in ast.parse(text_of("nets.py")).body:
+            if isinstance(node, ast.ClassDef) and node.name == "Net":
+                defined = [one.name for one in node.body if isinstance(one, ast.FunctionDef)]
+                for word in NET.split():
+                    self.assertEqual(1, defined.count(word), word)
 
 
 if __name__ == "__main__":

@@ -4,8 +4,9 @@ import unittest
 from copy import deepcopy
 from itertools import permutations
 
-from heardapart import books, webs
+from heardapart import books, moments, partings, webs
 from heardapart.errors import ApartError
+from heardapart.nets import Net
 
 from tests.odd import odd_things
 from tests.trials import line_web, some_names
@@ -13,6 +14,26 @@ from tests.trials import line_web, some_names
 WEB = (["c", "a", "d", "b"], [("a", "c"), ("c", "d"), ("b", "d")])
 BOOK = ["d", "b", "a", "c"]
 OTHER = ["a", "d", "c", "b"]
+
+
+def some_net():
+    """A net of which all has something to tell."""
+    net = Net("c")
+    for name, hand in (("a", "c"), ("d", "c"), ("b", "d")):
+        net.join(name, hand)
+    for hand, word in (("a", "y"), ("b", "x"), ("a", "v"), ("d", "w"), ("a", "u")):
+        net.shout(hand, word)
+    for hand, other in (("a", "c"), ("b", "d"), ("a", "c"), ("d", "c"), ("c", "d")):
+        net.step(hand, other)
+    return net
+
+
+NET = some_net()
+MOMENT = NET.moment()
+HISTORY = moments.history_of(MOMENT)
+FAULTY = ((["a", "b"], [("a", "b")]), {"x": "a", "y": "b"}, {"a": ["y", "x"], "b": ["x", "y"]})
+GIVEN = {"b": ["w", "y", "x", "z"], "c": ["w", "x", "z", "y"], "a": ["x", "w", "y", "z"]}
+PARTING = (["a", "b"], ["c"])
 ASKED = [
     (webs.is_name, ("a",)),
     (webs.is_web, (WEB,)),
@@ -39,6 +60,32 @@ ASKED = [
     (books.book_at, (BOOK, OTHER, 3, {"d": 0, "b": 1, "a": 3, "c": 2}, 1)),
     (books.book_at, (BOOK, OTHER, 3, {"d": 0, "b": 1, "a": 3, "c": 2}, 3)),
     (books.book_at, ([], [], 3, {}, 3)),
+    (NET.web, ()),
+    (NET.words, ()),
+    (NET.mouth, ("x",)),
+    (NET.book, ("c",)),
+    (NET.book, ("a",)),
+    (NET.lane, ("a", "c")),
+    (NET.lane, ("c", "d")),
+    (NET.lane, ("a", "b")),
+    (NET.lying, ()),
+    (NET.moment, ()),
+    (NET.next_words, ("d",)),
+    (NET.settled, ("d", "x", "y")),
+    (NET.settled, ("c", "x", "u")),
+    (NET.hearings_to, ("b", "u")),
+    (moments.is_moment, (MOMENT,)),
+    (moments.fault_of, (MOMENT,)),
+    (moments.fault_of, (FAULTY,)),
+    (moments.what_lies, (MOMENT,)),
+    (moments.history_of, (MOMENT,)),
+    (moments.comes_by, (MOMENT, HISTORY)),
+    (moments.comes_by, (FAULTY, HISTORY)),
+    (partings.partings_of, (GIVEN,)),
+    (partings.pairs_of, (GIVEN, PARTING)),
+    (partings.tree_places, (GIVEN,)),
+    (partings.tree_places, ({"a": [], "b": []},)),
+    (partings.fewest_hands, (GIVEN,)),
 ]
 
 
@@ -73,7 +120,13 @@ class Own(unittest.TestCase):
         for call, args in ((books.turned_pairs, (book, other)), (books.fewest_lots, (other, book)),
                            (books.book_at, (other, ["a", "b"], 3, numbers, 1)),
                            (webs.way_between, ((book, [("a", "b"), ("a", "b")]), "a", "b")),
-                           (webs.side_of, (WEB, "a", "d"))):
+                           (webs.side_of, (WEB, "a", "d")),
+                           (moments.fault_of, ((WEB, numbers, {"a": book}),)), (moments.what_lies, (FAULTY,)),
+                           (moments.history_of, (FAULTY,)), (moments.comes_by, (numbers, HISTORY)),
+                           (partings.partings_of, ({"a": book, "b": other},)),
+                           (partings.pairs_of, ({"a": other}, (book, other))),
+                           (partings.tree_places, ({"b": list("wxyz"), "a": list("xwyz"), "c": list("wxzy"),
+                                                    "d": list("xwzy")},))):
             ahead = deepcopy(args)
             self.assertRaises(ApartError, call, *args)
             self.assertEqual(repr(ahead), repr(args))
@@ -117,9 +170,22 @@ class Own(unittest.TestCase):
     def test_kinds_that_are_told(self):
         for call, args in ASKED:
             told = call(*args)
-            self.assertIn(type(told), (bool, int, str, list))
+            self.assertIn(type(told), (bool, int, str, list, tuple, dict, type(None)))
             for inner in told if type(told) is list else []:
                 self.assertIn(type(inner), (str, tuple, list))
+        self.assertEqual([list, list], [type(part) for part in NET.web()])
+        self.assertEqual([tuple, dict, dict], [type(part) for part in NET.moment()])
+        self.assertEqual({list}, {type(book) for book in NET.moment()[2].values()})
+        self.assertEqual({tuple}, {type(road) for road in NET.web()[1]})
+        self.assertEqual((dict, {tuple}, {list}), kinds_of_dict(moments.what_lies(MOMENT)))
+        self.assertEqual({tuple}, {type(deed) for deed in moments.history_of(MOMENT)})
+        for parting in partings.partings_of(GIVEN):
+            self.assertEqual((tuple, [list, list]), (type(parting), [type(part) for part in parting]))
+            self.assertEqual({tuple}, {type(pair) for pair in partings.pairs_of(GIVEN, parting)})
+        for place in partings.tree_places(GIVEN):
+            self.assertEqual((list, {list}), (type(place), {type(names) for names in place}))
+        for told in (partings.fewest_hands(GIVEN), NET.lying(), NET.hearings_to("b", "u")):
+            self.assertIs(int, type(told))
         self.assertEqual([("d", "a"), ("b", "a"), ("b", "c")], books.turned_pairs(BOOK, OTHER))
         self.assertIs(int, type(books.roads_between(BOOK, OTHER)))
 
@@ -137,6 +203,35 @@ class Own(unittest.TestCase):
         self.assertIs(True, books.is_numbering(["a"], ["a"], count, {"a": count}))
         self.assertEqual(["a"], books.book_at(["a"], ["a"], count, {"a": count}, count))
 
+    def test_what_nets_moments_and_partings_tell_may_be_handed_in(self):
+        self.assertEqual(["a", "c", "d", "b"], webs.way_between(NET.web(), "a", "b"))
+        self.assertIs(True, books.is_book(NET.book("c")) and books.is_book(NET.lane("a", "c")))
+        self.assertIs(True, moments.is_moment(NET.moment()))
+        self.assertIs(None, moments.fault_of(NET.moment()))
+        self.assertIs(True, moments.comes_by(NET.moment(), moments.history_of(NET.moment())))
+        for one, other in moments.what_lies(MOMENT):
+            self.assertIn(one, webs.side_of(NET.web(), one, other))
+        for parting in partings.partings_of(GIVEN):
+            for a, b in partings.pairs_of(GIVEN, parting):
+                self.assertIn((a, b), books.turned_pairs(GIVEN["a"], GIVEN[parting[1][0]]))
+        told = some_net()
+        told.rest()
+        self.assertIs(int, type(partings.fewest_hands(told.moment()[2])))
+        self.assertEqual(0, books.how_many_numberings(["a", "b"], ["b", "a"], told.lying()))
+
+    def test_nets_keep_nothing_that_they_told(self):
+        net, other = some_net(), some_net()
+        for call in (net.web, net.words, net.moment):
+            spoil(call())
+        for hand in "abcd":
+            spoil(net.book(hand))
+            spoil(net.next_words(hand))
+            for one in "abcd":
+                spoil(net.lane(hand, one))
+        self.assertEqual(other.moment(), net.moment())
+        self.assertEqual(other.rest(), net.rest())
+        self.assertEqual(other.moment(), net.moment())
+
     def test_a_whole_number_is_no_truth(self):
         self.assertIs(False, books.is_numbering(["a"], ["a"], 1, {"a": True}))
         self.assertIs(False, books.is_numbering(["a"], ["a"], 1, {"a": False}))
@@ -151,7 +246,8 @@ class Own(unittest.TestCase):
                 ahead = [id(inner) for inner in thing]
                 for ask in (webs.is_web, books.is_book, lambda given: books.is_lots(BOOK, OTHER, given),
                             lambda given: books.is_turned_row(BOOK, OTHER, given),
-                            lambda given: books.is_numbering(BOOK, OTHER, 3, given)):
+                            lambda given: books.is_numbering(BOOK, OTHER, 3, given), moments.is_moment,
+                            lambda given: moments.comes_by(MOMENT, given)):
                     ask(thing)
                 self.assertEqual(ahead, [id(inner) for inner in thing])
 
@@ -164,6 +260,11 @@ class Own(unittest.TestCase):
             self.assertEqual(words[33], webs.meeting_of(web, words[99], words[33], words[0]))
             self.assertEqual(100, len(books.longest_turned(words, words[::-1])))
             self.assertEqual(words[::-1], books.book_at(words, words[::-1], 999999999, numbers, 999999999))
+
+
+def kinds_of_dict(told):
+    """The kind of a dict, and those of its keys and of what it has under them."""
+    return type(told), {type(key) for key in told}, {type(told[key]) for key in told}
 
 
 def repeated(args):
