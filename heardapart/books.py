@@ -151,9 +151,27 @@ def ranks_of(book, other):
     """Tell for each word how many words the longest turned row has that ends with it."""
     places = places_of(other)
     ranks = {}
+    # The k-th is the greatest place, in the other book, of a last word of all turned rows of k words so far. In a row
+    # the places fall, and a row less its last word is one, too: so these fall, as well.
+    lasts = []
     for word in book:
-        ranks[word] = 1 + max([ranks[a] for a in ranks if places[a] > places[word]], default=0)
+        many = how_many_above(lasts, places[word])
+        lasts[many:many + 1] = [places[word]]
+        ranks[word] = many + 1
     return ranks
+
+
+def how_many_above(falling, least):
+    """Tell how many of some numbers, the greatest ahead, are greater than the least."""
+    low = 0
+    high = len(falling)
+    while low < high:
+        middle = (low + high) // 2
+        if falling[middle] > least:
+            low = middle + 1
+        else:
+            high = middle
+    return low
 
 
 def is_lot(ones, others, thing):

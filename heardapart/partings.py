@@ -4,6 +4,7 @@ from itertools import combinations
 
 from heardapart.books import is_book, places_of
 from heardapart.errors import Cross, NoBooks, NoParting
+from heardapart.threes import three_of
 from heardapart.webs import is_name, is_pair
 
 MOST_NAMES = 12
@@ -39,7 +40,7 @@ def fewest_hands(books):
     check_given(books)
     pairs = pairs_by_others(books)
     partings = partings_by(books, pairs)
-    if some_cross(partings) or some_three_bar(books):
+    if not could_be_heard(books, partings):
         return None
     bare = [place for place in places_by(partings) if not has_name(place, books)]
     between = [longest_row(pairs[others]) - 2 for others in pairs]
@@ -97,6 +98,11 @@ def share_name(names, others):
     return any(name in others for name in names)
 
 
+def could_be_heard(books, partings):
+    """Tell whether the given books, with these partings, could have been heard."""
+    return not some_cross(partings) and three_of(books) is None
+
+
 def do_cross(parting, other):
     """Tell whether two partings cross."""
     return all([share_name(names, others) for names in parting for others in other])
@@ -134,31 +140,3 @@ def longest_row(pairs):
     for a, b in pairs:
         ranks[b] = max(ranks.get(b, 1), ranks.get(a, 1) + 1)
     return max(ranks.values())
-
-
-def some_three_bar(books):
-    """Tell whether any three words, as they stand in the given books, show that these were heard nowhere."""
-    words = books[min(books)]
-    return any([do_bar(orders_of(books, three)) for three in combinations(words, 3)])
-
-
-def orders_of(books, words):
-    """Tell the orders in which some words stand in the given books: the keys of a dict."""
-    return {tuple([word for word in book if word in words]): True for book in books.values()}
-
-
-def do_bar(orders):
-    """Tell whether the orders of three words show that the books were heard nowhere."""
-    return any([goes_round(orders, order) or is_behind(orders, order) for order in orders])
-
-
-def goes_round(orders, order):
-    """Tell whether three words stand as in an order, and in both other ones that go round from there."""
-    a, b, c = order
-    return (b, c, a) in orders and (c, a, b) in orders
-
-
-def is_behind(orders, order):
-    """Tell whether the middle word of an order stands between the other two, either way about, and behind both."""
-    v, w, u = order
-    return (u, w, v) in orders and ((u, v, w) in orders or (v, u, w) in orders)

@@ -1,6 +1,7 @@
 """The sizes and signs of the package's files, and what they import."""
 
 import ast
+import builtins
 import os
 import unittest
 
@@ -15,9 +16,17 @@ INTERFACE = {
     "nets": "Net",
     "moments": "is_moment fault_of what_lies history_of comes_by",
     "partings": "partings_of pairs_of tree_places fewest_hands",
+    "worlds": "world_or_paper is_paper is_world least_apart mouths_of",
+    "lines": "heap_of rest_of how_many_rests",
+    "texts": "show_web read_web show_book read_book show_moment read_moment show_history read_history",
+    "desk": "Desk",
 }
 NET = "__init__ join shout step rest web words mouth book lane lying moment next_words settled hearings_to"
-LIBRARY = {"math": ["comb"], "heapq": ["heapify", "heappop", "heappush"], "itertools": ["combinations"]}
+METHODS = {"nets": ("Net", NET), "desk": ("Desk", "__init__ say")}
+# What the language lets a file import from outside of the package, as far as it is needed.
+LIBRARY = {"math": ["comb"], "heapq": ["heapify", "heappop", "heappush"], "itertools": ["combinations", "permutations"]}
+BUILTINS = ("len range enumerate zip min max sum sorted reversed int str list tuple dict set type any all "
+            "ValueError").split()
 
 
 def files():
@@ -55,7 +64,29 @@ class TheFiles(unittest.TestCase):
                 if isinstance(node, ast.ImportFrom):
                     self.assertEqual(0, node.level)
                     named = [alias.name for alias in node.names if alias.asname is None]
-                    self.assertTrue(named == LIBRARY.get(node.module) or node.module.startswith("heardapart."), name)
+                    self.assertEqual(len(named), len(node.names))
+                    if not node.module.startswith("heardapart."):
+                        self.assertTrue(set(named) <= set(LIBRARY.get(node.module, [])), name)
+                        continue
+                    # From the very file that defines it.
+                    body = ast.parse(text_of(node.module.partition(".")[2] + ".py")).body
+                    self.assertTrue(set(named) <= set(names_bound(body)), name)
+
+    def test_no_two_files_import_from_each_other(self):
+        near = {name: modules_in(name) for name in files()}
+        done = []
+        while near:
+            free = [name for name in near if all(other in done for other in near[name])]
+            self.assertNotEqual([], free)
+            done += free
+            near = {name: near[name] for name in near if name not in free}
+
+    def test_builtins(self):
+        for name in files():
+            for node in ast.walk(ast.parse(text_of(name))):
+                if isinstance(node, ast.Name) and hasattr(builtins, node.id):
+                    self.assertIn(node.id, BUILTINS, name)
+                    self.assertIsInstance(node.ctx, ast.Load, name)
 
     def test_the_interface_is_defined_where_it_is_listed(self):
         for name, listed in INTERFACE.items():
@@ -64,12 +95,28 @@ class TheFiles(unittest.TestCase):
             for word in listed.split():
                 self.assertEqual(1, defined.count(word), name + " " + word)
 
-    def test_a_nets_methods_are_defined_in_the_class_itself(self):
-        for node in ast.parse(text_of("nets.py")).body:
-            if isinstance(node, ast.ClassDef) and node.name == "Net":
-                defined = [one.name for one in node.body if isinstance(one, ast.FunctionDef)]
-                for word in NET.split():
-                    self.assertEqual(1, defined.count(word), word)
+    def test_methods_are_defined_in_the_class_itself(self):
+        for name, (listed, methods) in METHODS.items():
+            found = [node for node in ast.parse(text_of(name + ".py")).body
+                     if isinstance(node, ast.ClassDef) and node.name == listed]
+            defined = [node.name for node in found[0].body if isinstance(node, ast.FunctionDef)]
+            for word in methods.split():
+                self.assertEqual(1, defined.count(word), word)
+
+
+def names_bound(body):
+    """The names that the statements of a file define or assign."""
+    for node in body:
+        if isinstance(node, (ast.FunctionDef, ast.ClassDef)):
+            yield node.name
+        if isinstance(node, ast.Assign):
+            yield node.targets[0].id
+
+
+def modules_in(name):
+    """The files of the package from which a file imports."""
+    found = [node.module for node in ast.parse(text_of(name)).body if isinstance(node, ast.ImportFrom)]
+    return [module.partition(".")[2] + ".py" for module in found if module.startswith("heardapart.")]
 
 
 if __name__ == "__main__":

@@ -4,7 +4,8 @@ import unittest
 from copy import deepcopy
 from itertools import permutations
 
-from heardapart import books, moments, partings, webs
+from heardapart import books, lines, moments, partings, texts, webs, worlds
+from heardapart.desk import Desk
 from heardapart.errors import ApartError
 from heardapart.nets import Net
 
@@ -34,6 +35,13 @@ HISTORY = moments.history_of(MOMENT)
 FAULTY = ((["a", "b"], [("a", "b")]), {"x": "a", "y": "b"}, {"a": ["y", "x"], "b": ["x", "y"]})
 GIVEN = {"b": ["w", "y", "x", "z"], "c": ["w", "x", "z", "y"], "a": ["x", "w", "y", "z"]}
 PARTING = (["a", "b"], ["c"])
+HALVES = {"c": ["x", "w", "y", "z"], "b": ["w", "x", "y", "z"], "a": ["w", "x", "y", "z"], "d": ["z", "y", "x", "w"]}
+WORLD = worlds.world_or_paper(GIVEN)[1]
+NOWHERE = {"b": ["y", "z", "x"], "c": ["z", "x", "y"], "a": ["x", "y", "z"]}
+PAPER = worlds.world_or_paper(NOWHERE)
+ONES, OTHERS = ["b", "a"], ["d", "c"]
+HEAP = [[1, 0], [2, 0]]
+REST = lines.rest_of(ONES, OTHERS, 3, HEAP)
 ASKED = [
     (webs.is_name, ("a",)),
     (webs.is_web, (WEB,)),
@@ -86,6 +94,33 @@ ASKED = [
     (partings.tree_places, (GIVEN,)),
     (partings.tree_places, ({"a": [], "b": []},)),
     (partings.fewest_hands, (GIVEN,)),
+    (worlds.world_or_paper, (GIVEN,)),
+    (worlds.world_or_paper, ({"a": [], "b": []},)),
+    (worlds.world_or_paper, ({"b": ["y", "x", "z"], "c": ["z", "y", "x"], "a": ["y", "x", "z"]},)),
+    (worlds.world_or_paper, (NOWHERE,)),
+    (worlds.is_paper, (NOWHERE, PAPER)),
+    (worlds.is_world, (GIVEN, WORLD)),
+    (worlds.least_apart, (GIVEN, "a", "c")),
+    (worlds.mouths_of, (GIVEN, "w")),
+    (worlds.mouths_of, (GIVEN, "y")),
+    (worlds.mouths_of, ({"b": ["z", "y", "x"], "a": ["x", "y", "z"]}, "y")),
+    (lines.heap_of, (ONES, OTHERS, REST)),
+    (lines.heap_of, ([], OTHERS, [OTHERS, OTHERS])),
+    (lines.rest_of, (ONES, OTHERS, 3, HEAP)),
+    (lines.rest_of, (ONES, [], 4, [[], []])),
+    (lines.rest_of, ([], OTHERS, 4, [])),
+    (lines.how_many_rests, (2, 2, 3)),
+    (texts.show_web, (WEB,)),
+    (texts.read_web, ("a b\na-b",)),
+    (texts.show_book, (BOOK,)),
+    (texts.read_book, ("d b a c",)),
+    (texts.read_book, ("-",)),
+    (texts.show_moment, (MOMENT,)),
+    (texts.read_moment, (texts.show_moment(MOMENT),)),
+    (texts.read_moment, ("a b\na-b\na: -\nb: -",)),
+    (texts.show_history, (HISTORY,)),
+    (texts.read_history, (texts.show_history(HISTORY),)),
+    (texts.read_history, ("",)),
 ]
 
 
@@ -125,6 +160,12 @@ class Own(unittest.TestCase):
                            (moments.history_of, (FAULTY,)), (moments.comes_by, (numbers, HISTORY)),
                            (partings.partings_of, ({"a": book, "b": other},)),
                            (partings.pairs_of, ({"a": other}, (book, other))),
+                           (worlds.world_or_paper, ({"a": book, "b": other},)),
+                           (worlds.least_apart, (GIVEN, "a", other)), (worlds.mouths_of, (GIVEN, other)),
+                           (lines.heap_of, (other, ["c"], [other, book])), (lines.heap_of, (other, ["a"], [other])),
+                           (lines.rest_of, (other, ["c"], 2, [[1], [0]])), (texts.show_book, (book,)),
+                           (texts.show_web, ((book, other),)), (texts.show_history, ([("shout", book, other)],)),
+                           (texts.show_moment, ((WEB, numbers, {"a": book}),)), (Desk().say, (book,)),
                            (partings.tree_places, ({"b": list("wxyz"), "a": list("xwyz"), "c": list("wxzy"),
                                                     "d": list("xwzy")},))):
             ahead = deepcopy(args)
@@ -184,10 +225,62 @@ class Own(unittest.TestCase):
             self.assertEqual({tuple}, {type(pair) for pair in partings.pairs_of(GIVEN, parting)})
         for place in partings.tree_places(GIVEN):
             self.assertEqual((list, {list}), (type(place), {type(names) for names in place}))
-        for told in (partings.fewest_hands(GIVEN), NET.lying(), NET.hearings_to("b", "u")):
+        for told in (partings.fewest_hands(GIVEN), NET.lying(), NET.hearings_to("b", "u"),
+                     worlds.least_apart(GIVEN, "a", "b"), worlds.least_apart(GIVEN, "a", "a"),
+                     lines.how_many_rests(0, 3, 4), *lines.heap_of(ONES, OTHERS, REST)[0]):
             self.assertIs(int, type(told))
         self.assertEqual([("d", "a"), ("b", "a"), ("b", "c")], books.turned_pairs(BOOK, OTHER))
         self.assertIs(int, type(books.roads_between(BOOK, OTHER)))
+
+    def test_kinds_within_worlds_papers_mouths_lines_and_texts(self):
+        self.assert_moment(WORLD)
+        self.assert_moment(texts.read_moment(texts.show_moment(WORLD)))
+        self.assertEqual([tuple, str, tuple, tuple], [type(part) for part in (PAPER,) + PAPER])
+        for books_given in (GIVEN, HALVES, {"a": ["x", "y", "z"], "b": ["z", "y", "x"]}):
+            for word in books_given["a"]:
+                told = worlds.mouths_of(books_given, word)
+                self.assertEqual((tuple, 2, list), (type(told), len(told), type(told[0])))
+                for place in told[0]:
+                    self.assertEqual((list, {list}), (type(place), {type(names) for names in place}))
+                if told[1] is not None:
+                    self.assertEqual((tuple, [list, list]), (type(told[1]), [type(names) for names in told[1]]))
+        for told in (REST, lines.heap_of(ONES, OTHERS, REST)):
+            self.assertEqual((list, {list}), (type(told), {type(row) for row in told}))
+        web, book, history = texts.read_web("a b\na-b"), texts.read_book("a b"), texts.read_history("shout a b")
+        self.assertEqual([tuple, list, list, tuple], [type(told) for told in (web, web[0], web[1], web[1][0])])
+        self.assertEqual([list, list, tuple], [type(told) for told in (book, history, history[0])])
+
+    def assert_moment(self, told):
+        web, mouths, whole = told
+        self.assertEqual([tuple, tuple, list, list, dict, dict],
+                         [type(part) for part in (told, web, web[0], web[1], mouths, whole)])
+        self.assertEqual({tuple}, {type(road) for road in web[1]})
+        self.assertEqual({list}, {type(book) for book in whole.values()})
+
+    def test_what_worlds_lines_texts_and_desks_tell_may_be_handed_in(self):
+        self.assertIs(None, moments.fault_of(WORLD))
+        self.assertEqual({}, moments.what_lies(WORLD))
+        self.assertIs(True, moments.comes_by(WORLD, texts.read_history(texts.show_history(moments.history_of(WORLD)))))
+        self.assertIs(True, worlds.is_world(GIVEN, texts.read_moment(texts.show_moment(WORLD))))
+        self.assertIs(True, worlds.is_world(WORLD[2], WORLD))
+        self.assertEqual("world", worlds.world_or_paper(WORLD[2])[0])
+        self.assertIs(True, worlds.is_paper(NOWHERE, PAPER))
+        for one in GIVEN:
+            for other in GIVEN:
+                way = webs.way_between(WORLD[0], one, other)
+                self.assertLessEqual(worlds.least_apart(GIVEN, one, other), len(way) - 1)
+        for word in HALVES["a"]:
+            places, parting = worlds.mouths_of(HALVES, word)
+            self.assertTrue(all(place in partings.tree_places(HALVES) for place in places))
+            self.assertEqual(places != [], parting is None)
+            if parting is not None:
+                self.assertTrue(partings.pairs_of(HALVES, parting))
+        self.assertEqual(REST, lines.rest_of(ONES, OTHERS, len(REST), lines.heap_of(ONES, OTHERS, REST)))
+        self.assertEqual([1, 1, 0], [books.roads_between(book, REST[2]) for book in REST])
+        many = lines.how_many_rests(2, 2, 3)
+        self.assertEqual(many + 1, lines.how_many_rests(1, 1, many))
+        way = webs.way_between(WEB, "a", "b")
+        self.assertEqual(way, texts.read_book(texts.show_book(way)))
 
     def test_what_was_told_may_be_handed_in(self):
         self.assertIs(True, books.is_book(webs.way_between(WEB, "a", "b")))
